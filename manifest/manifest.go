@@ -1,0 +1,22 @@
+// Package manifest: manifests and their text: see DOC.md.
+package manifest
+
+import "bulkhead/api"
+
+// Parse reads a manifest's text (P3).
+func Parse(text string) (api.Manifest, api.Place, api.Errno) {
+	if len(text) > api.MaxText {
+		return api.Manifest{}, api.Place{}, api.ErrSize
+	}
+	m, err := parse(text)
+	if err != nil {
+		return api.Manifest{}, placeOf(err), errnoOf(err)
+	}
+	return m, api.Place{}, api.OK
+}
+
+// Check tells what is wrong with a manifest (P4).
+func Check(m api.Manifest) api.Errno { return api.OK }
+
+// Print writes a manifest's text (P5).
+func Print(m api.Manifest) (string, api.Errno) { return "", api.OK }
