@@ -16,7 +16,34 @@ func Parse(text string) (api.Manifest, api.Place, api.Errno) {
 }
 
 // Check tells what is wrong with a manifest (P4).
-func Check(m api.Manifest) api.Errno { return api.OK }
+func Check(m api.Manifest) api.Errno {
+	if !isWithin(m.Frame, 1, api.MaxFrame) {
+		return api.ErrFrame
+	}
+	if hasTooMany(m) {
+		return api.ErrMany
+	}
+	if e := checkPartitions(m); e != api.OK {
+		return e
+	}
+	if e := checkChannels(m); e != api.OK {
+		return e
+	}
+	if load(m) > m.Frame {
+		return api.ErrLoad
+	}
+	if pages(m) > api.MaxPage {
+		return api.ErrMemory
+	}
+	return api.OK
+}
 
 // Print writes a manifest's text (P5).
-func Print(m api.Manifest) (string, api.Errno) { return "", api.OK }
+func Print(m api.Manifest) (string, api.Errno) {
+	if e := Check(m); e != api.OK {
+		return "", e
+	}
+	var p printer
+	p.manifest(m)
+	return p.text.String(), api.OK
+}

@@ -1,6 +1,7 @@
 package manifest_test
 
 import (
+	"strings"
 	"sync"
 	"testing"
 	"unsafe"
@@ -56,13 +57,31 @@ func TestP2AnswersShareNoMemoryWithTheText(t *testing.T) {
 	}
 }
 
+func TestP2PrintedTextSharesNoMemoryWithTheNames(t *testing.T) {
+	name := []byte("mine")
+	m := sound()
+	m.Partitions[0].Name = unsafe.String(&name[0], len(name))
+	m.Channels[0].Name = m.Partitions[0].Name
+	text, e := manifest.Print(m)
+	if e != api.OK || string(name) != "mine" {
+		t.Fatalf("Print answers %d, and leaves %q", e, name)
+	}
+	want := strings.Clone(text)
+	fill(name, 'x')
+	if text != want {
+		t.Errorf("writing over a name changes the printed text: %q, want %q", text, want)
+	}
+}
+
 func TestP2CallsAtTheSameTime(t *testing.T) {
+	shared := sound()
 	var group sync.WaitGroup
 	for range 8 {
 		group.Go(func() {
 			for range 50 {
 				expectRead(t, rich, richManifest())
 				expectRefused(t, "module 8;\nchannel c a", 2, 11, api.ErrUnknown)
+				expectChecked(t, "one manifest", shared, api.OK)
 			}
 		})
 	}

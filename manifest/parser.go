@@ -7,24 +7,6 @@ import (
 	"bulkhead/api"
 )
 
-// option is a word that may stand somewhere, and what it means there.
-type option struct {
-	word  string
-	value int
-}
-
-func actions() []option {
-	return []option{{"ignore", api.Ignore}, {"stop", api.Stop}, {"restart", api.Restart}}
-}
-
-func rights() []option {
-	return []option{{"look", api.Look}, {"change", api.Change}}
-}
-
-func channelKinds() []option {
-	return []option{{"queue", api.Queue}, {"sample", api.Sample}}
-}
-
 // parser goes along the grammar. Once err is set, it stays, no token is read and
 // no list goes on, so that the rules need not ask for it at each of their steps.
 type parser struct {

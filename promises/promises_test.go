@@ -187,30 +187,46 @@ func wholeOf(m api.Manifest) api.Manifest {
 }
 
 func TestP2ArgumentsStay(t *testing.T) {
-	m := roomy()
-	before := wholeOf(m)
-	manifest.Check(m)
-	manifest.Print(m)
-	build.Plan(m)
-	build.Compile(m)
-	if after := wholeOf(m); !reflect.DeepEqual(before, after) {
-		t.Errorf("a manifest that was handed in was %+v and is %+v", before, after)
+	for _, change := range setters() {
+		for _, n := range numbers {
+			m := roomy()
+			change(&m, n)
+			before := wholeOf(m)
+			askOfManifest(m)
+			if after := wholeOf(m); !reflect.DeepEqual(before, after) {
+				t.Errorf("a manifest that was handed in was %+v and is %+v", before, after)
+			}
+		}
 	}
 }
 
+// askOfManifest has what each call answers that takes a manifest.
+func askOfManifest(m api.Manifest) []any {
+	text, printed := manifest.Print(m)
+	plan, planned := build.Plan(m)
+	image, compiled := build.Compile(m)
+	return []any{manifest.Check(m), text, printed, plan, planned, image, compiled}
+}
+
+func askOfText(text string) []any {
+	m, place, e := manifest.Parse(text)
+	return []any{m, place, e}
+}
+
 func TestP2AnswersHangOnArguments(t *testing.T) {
-	all := texts()
-	ask := func(text string) []any {
-		m, place, e := manifest.Parse(text)
-		return []any{m, place, e}
-	}
+	expectSameAgain(t, texts(), askOfText)
+	expectSameAgain(t, manifests(), askOfManifest)
+}
+
+// expectSameAgain asks for all, and then again from the last one on.
+func expectSameAgain[A any](t *testing.T, all []A, ask func(A) []any) {
 	first := make([][]any, len(all))
-	for i, text := range all {
-		first[i] = ask(text)
+	for i, one := range all {
+		first[i] = ask(one)
 	}
-	for i, text := range slices.Backward(all) {
-		if again := ask(text); !reflect.DeepEqual(first[i], again) {
-			t.Errorf("Parse(%.40q) = %v, and then %v", text, first[i], again)
+	for i, one := range slices.Backward(all) {
+		if again := ask(one); !reflect.DeepEqual(first[i], again) {
+			t.Errorf("of %.80v: %v, and then %v", one, first[i], again)
 		}
 	}
 }
