@@ -200,6 +200,12 @@ func TestP2ArgumentsStay(t *testing.T) {
 	}
 }
 
+func TestP2RoomSaysNothing(t *testing.T) {
+	if with, without := askOfManifest(roomy()), askOfManifest(example()); !reflect.DeepEqual(with, without) {
+		t.Errorf("with spare room behind its lists a manifest is answered %v, without %v", with, without)
+	}
+}
+
 // askOfManifest has what each call answers that takes a manifest.
 func askOfManifest(m api.Manifest) []any {
 	text, printed := manifest.Print(m)
