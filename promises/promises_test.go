@@ -126,16 +126,31 @@ func TestP1Manifests(t *testing.T) {
 	}
 }
 
+// images are those of the manifests that have one.
+func images() []string {
+	var all []string
+	for _, m := range manifests() {
+		if image, e := build.Compile(m); e == api.OK {
+			all = append(all, image)
+		}
+	}
+	return all
+}
+
 func TestP1Kernels(t *testing.T) {
-	image, _ := build.Compile(example())
-	for _, bytes := range append(texts(), image) {
+	booted := 0
+	for _, bytes := range append(texts(), images()...) {
 		k, e := kernel.Boot(bytes)
-		if e != api.OK && k != nil {
-			t.Errorf("Boot(%.40q) answers %d and a kernel", bytes, e)
+		if (k != nil) != (e == api.OK) {
+			t.Errorf("Boot(%.40q) answers %d and %v", bytes, e, k)
 		}
 		if k != nil {
+			booted++
 			useKernel(t, k)
 		}
+	}
+	if booted < len(images()) {
+		t.Errorf("of %d images %d kernels have booted", len(images()), booted)
 	}
 }
 
@@ -219,9 +234,29 @@ func askOfText(text string) []any {
 	return []any{m, place, e}
 }
 
+// askOfImage has what a kernel answers on its way through two frames.
+func askOfImage(image string) []any {
+	k, e := kernel.Boot(image)
+	answers := []any{e}
+	if k == nil {
+		return answers
+	}
+	for range 12 {
+		p := k.Running()
+		b, read := k.Read(p, 0)
+		message, fresh, received := k.Receive(p, 0)
+		answers = append(answers, p, b, read, message, fresh, received, k.Write(p, 1, 1), k.Send(p, 0, "x"))
+		state, e := k.State(p)
+		answers = append(answers, state, e)
+		k.Tick()
+	}
+	return answers
+}
+
 func TestP2AnswersHangOnArguments(t *testing.T) {
 	expectSameAgain(t, texts(), askOfText)
 	expectSameAgain(t, manifests(), askOfManifest)
+	expectSameAgain(t, append(images(), texts()...), askOfImage)
 }
 
 // expectSameAgain asks for all, and then again from the last one on.
